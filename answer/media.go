@@ -5,6 +5,7 @@ import (
 	"strings"
 
 	"rostrum/api"
+	"rostrum/clone"
 )
 
 // openPort is the Port of what isn't refused.
@@ -38,11 +39,7 @@ func able(m api.Media, codecs []api.Codec, c api.Config) bool {
 }
 
 func refusal(m api.Media) api.Media {
-	r := api.Media{Kind: m.Kind, Mid: strings.Clone(m.Mid), SctpPort: m.SctpPort}
-	for _, c := range m.Codecs {
-		r.Codecs = append(r.Codecs, with(c, texts(c.Feedback)))
-	}
-	return r
+	return api.Media{Kind: m.Kind, Mid: strings.Clone(m.Mid), Codecs: clone.Codecs(m.Codecs), SctpPort: m.SctpPort}
 }
 
 // turned tells the direction as the other side sees it.
@@ -72,7 +69,7 @@ func received(m api.Media) []string {
 	if !m.Sending {
 		return nil
 	}
-	return texts(m.Rids)
+	return clone.Texts(m.Rids)
 }
 
 // keyed tells what is offered with the server's key in the place of the peer's.
@@ -82,13 +79,4 @@ func keyed(offered []api.Crypto, key [30]byte) []api.Crypto {
 		list = append(list, api.Crypto{Tag: c.Tag, Key: key})
 	}
 	return list
-}
-
-// texts is a copy of the list that shares no memory with it, the texts' own neither.
-func texts(list []string) []string {
-	var all []string
-	for _, s := range list {
-		all = append(all, strings.Clone(s))
-	}
-	return all
 }
