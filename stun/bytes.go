@@ -2,6 +2,7 @@ package stun
 
 import (
 	"rostrum/api"
+	"rostrum/put"
 	"rostrum/wire"
 )
 
@@ -43,13 +44,13 @@ func Parse(b []byte) (Message, api.Errno) {
 // write lays out m, which is valid.
 func write(m Message) []byte {
 	b := make([]byte, 0, size(m))
-	b = put16(b, headKind(m.Class, m.Method))
-	b = put16(b, uint16(size(m)-headSize))
-	b = put32(b, cookie)
+	b = put.U16(b, headKind(m.Class, m.Method))
+	b = put.U16(b, uint16(size(m)-headSize))
+	b = put.U32(b, cookie)
 	b = append(b, m.ID[:]...)
 	for _, a := range m.Attrs {
-		b = put16(b, a.Type)
-		b = put16(b, uint16(len(a.Value)))
+		b = put.U16(b, a.Type)
+		b = put.U16(b, uint16(len(a.Value)))
 		b = append(b, a.Value...)
 		b = append(b, make([]byte, padding(len(a.Value)))...)
 	}
@@ -96,12 +97,4 @@ func classOf(kind uint16) int {
 // methodOf takes the method out of a headKind.
 func methodOf(kind uint16) int {
 	return int(kind&0xf | kind>>1&0x70 | kind>>2&0xf80)
-}
-
-func put16(b []byte, v uint16) []byte {
-	return append(b, byte(v>>8), byte(v))
-}
-
-func put32(b []byte, v uint32) []byte {
-	return put16(put16(b, uint16(v>>16)), uint16(v))
 }

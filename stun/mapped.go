@@ -2,6 +2,7 @@ package stun
 
 import (
 	"rostrum/api"
+	"rostrum/put"
 	"rostrum/wire"
 )
 
@@ -13,9 +14,9 @@ const (
 
 // Mapped tells a's value.
 func Mapped(a api.Addr) []byte {
-	b := put16(nil, family)
-	b = put16(b, a.Port^cookie>>16)
-	return put32(b, a.IP^cookie)
+	b := put.U16(nil, family)
+	b = put.U16(b, a.Port^cookie>>16)
+	return put.U32(b, a.IP^cookie)
 }
 
 // ReadMapped tells the address whose value is b.

@@ -5,6 +5,7 @@ import (
 	"slices"
 
 	"rostrum/api"
+	"rostrum/put"
 	"rostrum/sha1"
 )
 
@@ -64,11 +65,11 @@ func fillMAC(b, key []byte) {
 // fillCRC writes into b, which ends with the attribute of the CRC, its Value.
 func fillCRC(b []byte) {
 	setLength(b)
-	sum := put32(nil, sha1.CRC(b[:len(b)-crcSize])^crcMask)
+	sum := put.U32(nil, sha1.CRC(b[:len(b)-crcSize])^crcMask)
 	copy(b[len(b)-len(sum):], sum)
 }
 
 // setLength has b's head tell the length of b alone, as if nothing came behind it.
 func setLength(b []byte) {
-	copy(b[lengthAt:], put16(nil, uint16(len(b)-headSize)))
+	copy(b[lengthAt:], put.U16(nil, uint16(len(b)-headSize)))
 }
