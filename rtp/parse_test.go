@@ -315,8 +315,8 @@ func TestMoreExtsThanMayBe(t *testing.T) {
 	}
 }
 
-// All words of one, and of two with fewer bytes in them, with a Payload behind and without.
-func TestAllWords(t *testing.T) {
+// One word of every first byte with few bytes behind it, and two words of fewer bytes, with a Payload behind and without.
+func TestManyWords(t *testing.T) {
 	few := []byte{0, 1, 2, 0x0f, 0x10, 0x11, 0x12, 0xe0, 0xf0, 0xff}
 	for first := range 256 {
 		for i := range len(few) * len(few) * len(few) {
